@@ -1,0 +1,52 @@
+"""The lines of the document's examples that the modules answer."""
+
+import unittest
+
+from pinsenough.couples import apart_couples, apart_shown, had_couples, leads_of
+from pinsenough.forms import is_reading, is_state
+from pinsenough.made import least_programs, made_kinds, met_kinds, trimmed
+from pinsenough.programs import context_of, filled, hole_of, parts_at, program_at, put_at, reading_at, size_of
+from pinsenough.reader import read_program, read_table
+from pinsenough.readings import index_of, kinds_left, reading_by, readings_many, readings_of, unread_node
+from pinsenough.texts import show_program, show_table
+
+
+class ExamplesTest(unittest.TestCase):
+    def test_behind_15(self):
+        names, table = read_table("kind a\nkind b\nsign g 0\nsign f 2 # two\nentry g is a\n\nentry f a b is b\nentry g is b")
+        self.assertEqual(table, (2, (0, 2), ((0, (), 0), (0, (), 1), (1, (0, 1), 1))))
+        self.assertEqual([show_table(names, table).split("\n")[4], is_reading(table, (1, (0,), (0,)), (1, 0, 1)),
+                          is_state(table, (0, ((1,),)))], ["entry g is a", True, True])
+        program = (1, (0,), (1, (0,), (0,)))
+        self.assertEqual([size_of(program), program_at(program, 2), parts_at(program, 2), reading_at(program, (1, 0, 1, 0, 1), 2)],
+                         [5, (1, (0,), (0,)), (3, 4), (1, 0, 1)])
+        context = context_of(program, 1)
+        self.assertEqual([context, hole_of(context), size_of(context), filled(context, (0,)) == program, put_at(program, 2, (0,))],
+                         [(1, None, (1, (0,), (0,))), 1, 4, True, (1, (0,), (0,))])
+        text = show_program(names, program, {0: 1, 3: 0})
+        self.assertEqual([text, read_program(names, table, text) == (program, {0: 1, 3: 0})],
+                         ["f:b ( g , f ( g:a , g ) )", True])
+
+    def test_behind_17(self):
+        entries = ((0, (), 0), (1, (0,), 0), (1, (0,), 1), (1, (1,), 1), (2, (1, 2), 2))
+        table = (3, (0, 1, 2), entries)
+        self.assertEqual([made_kinds(table), least_programs(table), met_kinds(table, (1,)), trimmed(table, (0, 2))[2]],
+                         [[0, 1], {0: (0,), 1: (1, (0,))}, [0, 1], ((0, (), 0), (1, (0,), 0))])
+        program = (1, (1, (0,)))
+        self.assertEqual([readings_of(table, program, {}), readings_many(table, program, {}), readings_many(table, program, {1: 0})],
+                         [[(0, 0, 0), (1, 0, 0), (1, 1, 0)], (1, 2, 0), (1, 1, 0)])
+        self.assertEqual([reading_by(table, program, {0: 1}, 1), index_of(table, program, {}, (1, 1, 0)),
+                          kinds_left(table, program, {0: 1})], [(1, 1, 0), 2, [(1,), (0, 1), (0,)]])
+        self.assertEqual([unread_node(table, program), unread_node(table, (2, program, (0,))),
+                          unread_node(table, (1, (2, (0,), (0,))))], [None, 0, 1])
+
+    def test_behind_20(self):
+        table = (2, (0, 1), ((0, (), 0), (1, (0,), 0), (1, (0,), 1), (1, (1,), 1)))
+        self.assertEqual([had_couples(table), apart_couples(table), apart_shown(table, (1, 1))[0], apart_shown(table, (0, 0))],
+                         [[(0, 0), (0, 1), (1, 0), (1, 1)], [(0, 1), (1, 0), (1, 1)], (1, (1, (0,))), None])
+        self.assertEqual(leads_of(table)[3:], [((0, 0), (1, 1), False), ((0, 1), (0, 1), False), ((0, 1), (1, 1), False),
+                                               ((1, 0), (1, 0), False), ((1, 0), (1, 1), False), ((1, 1), (1, 1), False)])
+
+
+if __name__ == "__main__":
+    unittest.main()

@@ -1,0 +1,62 @@
+"""The section "The interface": names, arguments and modules, as far as they have landed."""
+
+import ast
+import importlib
+import inspect
+import pathlib
+import unittest
+
+PACKAGE = pathlib.Path(__file__).resolve().parent.parent / "pinsenough"
+
+INTERFACE = {
+    "errors": ["Broken(duty)", "Doubling(found)", "NoCommand()", "NoIndex(index)", "NoReading(node)", "NoText(at)",
+               "NotEnough(other)", "Nothing()", "TooMany(most)", "Unbounded(found)", "Wrong(place)"],
+    "forms": ["is_integer(thing)", "is_table(thing)", "is_program(table, thing)", "is_context(table, thing)",
+              "is_lot(table, thing)", "is_reading(table, program, thing)", "are_places(program, thing)",
+              "are_pins(table, program, thing)", "is_state(table, thing)"],
+    "programs": ["size_of(program)", "hole_of(context)", "program_at(program, node)", "put_at(program, node, other)",
+                 "filled(context, other)", "context_of(program, node)", "renumbered_program(program, signs)",
+                 "parts_at(program, node)", "reading_at(program, reading, node)", "renumbered_reading(reading, kinds)",
+                 "renumbered(table, kinds, signs)"],
+    "texts": ["show_table(names, table)", "show_program(names, program, pins)"],
+    "reader": ["read_table(text)", "read_program(names, table, text)"],
+    "made": ["made_kinds(table)", "met_kinds(table, wanted)", "least_programs(table)", "trimmed(table, wanted)"],
+    "readings": ["readings_many(table, program, pins)", "reading_by(table, program, pins, index)",
+                 "readings_of(table, program, pins)", "kinds_left(table, program, pins)",
+                 "index_of(table, program, pins, reading)", "unread_node(table, program)"],
+    "couples": ["had_couples(table)", "had_triples(table)", "apart_couples(table)", "leads_of(table)",
+                "couple_shown(table, couple)", "apart_shown(table, couple)"],
+}
+
+
+class InterfaceTest(unittest.TestCase):
+    def test_names_and_arguments(self):
+        for name, calls in INTERFACE.items():
+            module = importlib.import_module(f"pinsenough.{name}")
+            for call in calls:
+                thing = getattr(module, call.partition("(")[0])
+                self.assertEqual(f"{thing.__name__}{inspect.signature(thing)}", call)
+                self.assertEqual(thing.__module__, f"pinsenough.{name}")
+
+    def test_defined_in_the_file(self):
+        for name, calls in INTERFACE.items():
+            tree = ast.parse((PACKAGE / f"{name}.py").read_text())
+            defined = [row.name for row in tree.body if isinstance(row, (ast.FunctionDef, ast.ClassDef))]
+            for call in calls:
+                self.assertIn(call.partition("(")[0], defined)
+
+    def test_modules_use_those_above(self):
+        above = []
+        for name in INTERFACE:
+            tree = ast.parse((PACKAGE / f"{name}.py").read_text())
+            for row in tree.body:
+                if isinstance(row, ast.ImportFrom) and row.module.startswith("pinsenough."):
+                    self.assertIn(row.module.partition(".")[2], above)
+            above.append(name)
+
+    def test_init_is_empty(self):
+        self.assertEqual((PACKAGE / "__init__.py").read_bytes(), b"")
+
+
+if __name__ == "__main__":
+    unittest.main()
