@@ -54,43 +54,55 @@ def apart_couples(table):
     return sorted([couple for couple, apart in least_sizes(apart_steps(table)) if apart])
 
 
-def joined_readings(couple, parts):
-    """The two readings of a whole with this couple, of the (program, one, other) of its parts."""
-    one = [couple[0]]
-    other = [couple[1]]
-    for _, first, second in parts:
-        one.extend(first)
-        other.extend(second)
-    return (tuple(one), tuple(other))
+def plain_steps(table, width):
+    """Steps whose wholes and parts are tuples (row, False), as those of apart_steps are if nothing is apart."""
+    steps = []
+    for sign, parts, whole in row_steps(table, width):
+        steps.append((sign, tuple([(part, False) for part in parts]), (whole, False)))
+    return steps
 
 
-def least_step(steps, sizes, mark):
-    """The sign and the parts of the first step by which a least program comes about."""
-    fitting = [(sign, parts) for sign, parts, whole in steps if whole == mark]
-    return [step for step in fitting if size_by(sizes, step[1]) == sizes[mark]][0]
+def joined_readings(row, parts):
+    """The readings of a whole with this row, of the (program, *readings) of its parts."""
+    readings = []
+    for index, kind in enumerate(row):
+        reading = [kind]
+        for part in parts:
+            reading.extend(part[1 + index])
+        readings.append(tuple(reading))
+    return readings
 
 
-def shown(steps, sizes, wanted):
-    """The tuple (program, one, other) for a tuple (couple, apart); None if it does not come about."""
-    if wanted not in sizes:
-        return None
+def least_step(steps, sizes, size):
+    """The sign and the parts of the first step by which a program of this size comes about."""
+    return [(sign, parts) for sign, parts in steps if size_by(sizes, parts) == size][0]
+
+
+def shown_marks(steps):
+    """From each mark that comes about to a tuple (program, *readings), the program of the least size.
+
+    A mark is a tuple: first a row with a kind for each of the readings, then what else a step tells of them.
+    """
+    sizes = least_sizes(steps)
+    leading = {mark: [] for mark in sizes}
+    for sign, parts, whole in steps:
+        if whole in sizes:
+            leading[whole].append((sign, parts))
     found = {}
-    for _, mark in sorted([(sizes[whole], whole) for whole in sizes]):
-        sign, parts = least_step(steps, sizes, mark)
+    for size, mark in sorted([(sizes[whole], whole) for whole in sizes]):
+        sign, parts = least_step(leading[mark], sizes, size)
         below = [found[part] for part in parts]
         program = (sign, *[part[0] for part in below])
         found[mark] = (program, *joined_readings(mark[0], below))
-    return found[wanted]
+    return found
 
 
 def couple_shown(table, couple):
-    steps = apart_steps(table)
-    return shown(steps, least_sizes(steps), (couple, False))
+    return shown_marks(apart_steps(table)).get((couple, False))
 
 
 def apart_shown(table, couple):
-    steps = apart_steps(table)
-    return shown(steps, least_sizes(steps), (couple, True))
+    return shown_marks(apart_steps(table)).get((couple, True))
 
 
 def leads_of(table):

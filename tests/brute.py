@@ -1,5 +1,6 @@
 """What the tests look things up with: the document's words done slowly, and many kinds of values."""
 
+import functools
 import itertools
 import random
 
@@ -31,6 +32,41 @@ def random_table(seed, most_kinds=4, most_signs=4, most_entries=12):
 
 def random_tables(count, start=0):
     return [random_table(seed) for seed in range(start, start + count)]
+
+
+def lively_table(seed, most_kinds=3):
+    """A table with leaves, and more often with rounds than the random ones."""
+    rng = random.Random(seed)
+    many = rng.randint(2, most_kinds)
+    signs = (0, *(rng.choice((0, 1, 1, 1, 2)) for _ in range(rng.randint(1, 3))))
+    entries = set()
+    for sign, parts in enumerate(signs):
+        for _ in range(rng.randint(1, (2, 5, 7)[parts])):
+            entries.add((sign, tuple(rng.randrange(many) for _ in range(parts)), rng.randrange(many)))
+    return (many, signs, tuple(sorted(entries)))
+
+
+def lively_tables(count, start=0, most_kinds=3):
+    return [lively_table(seed, most_kinds) for seed in range(start, start + count)]
+
+
+def layered_table(seed):
+    """A table whose wholes mostly have greater kinds than the parts: readings are many, but more often bounded."""
+    rng = random.Random(seed)
+    signs = (0, *rng.choices((0, 1, 2, 2), k=rng.randint(2, 4)))
+    many = rng.randint(6, 20)
+    entries = set()
+    for _ in range(many * 3):
+        sign, kind = rng.randrange(len(signs)), rng.randrange(4)
+        parts = tuple(rng.randrange(4) for _ in range(signs[sign]))
+        rises = all(part <= kind for part in parts) and (parts == () or min(parts) < kind or rng.random() < 0.25)
+        if sign == 0 or rises:
+            entries.add((sign, parts, kind))
+    return (4, signs, tuple(sorted(rng.sample(sorted(entries), min(many, len(entries))))))
+
+
+def layered_tables(count, start=0):
+    return [layered_table(seed) for seed in range(start, start + count)]
 
 
 def some_tables(count):
@@ -66,6 +102,28 @@ def some_programs(table, most_size, most=400):
     return found
 
 
+def slow_tree(table, program):
+    """Whether program is one, by the signs alone."""
+    return len(program) == 1 + table[1][program[0]] and all(slow_tree(table, part) for part in program[1:])
+
+
+def size_by_parts(program):
+    return 1 + sum(size_by_parts(part) for part in program[1:])
+
+
+def some_program(table, size, rng):
+    """A program of a size, by the signs alone, None if none was found."""
+    signs = {parts: [sign for sign, many in enumerate(table[1]) if many == parts] for parts in range(3)}
+    if size == 1:
+        return (rng.choice(signs[0]),) if signs[0] else None
+    parts = rng.choice([many for many in (1, 2) if signs[many] and size > many] or [0])
+    if parts == 0:
+        return None
+    first = rng.randint(1, size - 2) if parts == 2 else size - 1
+    below = [some_program(table, part, rng) for part in ((first, size - 1 - first) if parts == 2 else (first,))]
+    return None if None in below else (rng.choice(signs[parts]), *below)
+
+
 def nodes_of(program):
     """The programs at the nodes, in order."""
     if program is None:
@@ -74,7 +132,9 @@ def nodes_of(program):
 
 
 def readings_of(table, program):
-    """All readings of a program, ascending."""
+    """All readings of a program or a context, ascending."""
+    if program is None:
+        return [(kind,) for kind in range(table[0])]
     found = set()
     below = [readings_of(table, part) for part in program[1:]]
     for sign, parts, kind in table[2]:
@@ -83,6 +143,84 @@ def readings_of(table, program):
             for chosen in itertools.product(*lists):
                 found.add((kind, *itertools.chain(*chosen)))
     return sorted(found)
+
+
+@functools.lru_cache(500)
+def tallies_cut(table, most):
+    """The tallies that programs have, each number above most being most, also that of none; most is from 1 on."""
+    found = set()
+    before = None
+    while before != len(found):
+        before = len(found)
+        for sign, many in enumerate(table[1]):
+            for below in itertools.product(list(found), repeat=many):
+                tally = [0] * table[0]
+                for other, parts, kind in table[2]:
+                    if other == sign:
+                        ways = 1
+                        for part, row in zip(parts, below):
+                            ways *= row[part]
+                        tally[kind] += ways
+                found.add(tuple(min(number, most) for number in tally))
+    return found
+
+
+@functools.lru_cache(500)
+def rows_had(table, width):
+    """The rows of kinds that programs have."""
+    return {row for tally in tallies_cut(table, 1)
+            for row in itertools.product([kind for kind in range(table[0]) if tally[kind]], repeat=width)}
+
+
+@functools.lru_cache(500)
+def couples_apart(table):
+    return {(one, other) for tally in tallies_cut(table, 2) for one in range(table[0]) for other in range(table[0])
+            if tally[one] and tally[other] and (one != other or tally[one] > 1)}
+
+
+@functools.lru_cache(500)
+def leads(table, width):
+    """All (row, other, rows of the other parts) by which a row leads to another, by the definition."""
+    had = rows_had(table, width)
+    found = set()
+    for entries in itertools.product(table[2], repeat=width):
+        if len({entry[0] for entry in entries}) == 1:
+            rows = list(zip(*(entry[1] for entry in entries)))
+            for place, row in enumerate(rows):
+                rest = tuple(rows[:place] + rows[place + 1:])
+                if all(other in had for other in rest):
+                    found.add((row, tuple(entry[2] for entry in entries), rest))
+    return found
+
+
+def lots_without(table, kind):
+    others = [other for other in range(table[0]) if other != kind]
+    return sorted(lot for many in range(len(others) + 1) for lot in itertools.combinations(others, many))
+
+
+def are_told(readings, reading, places, lot):
+    """Whether each other reading that agrees at the places has a kind in the lot."""
+    return all(row == reading or row[0] in lot or any(row[node] != reading[node] for node in places) for row in readings)
+
+
+def costs_of(table, readings, reading):
+    """The dict from each lot to its cost, all places gone through, readings being all of one program."""
+    found = {}
+    for lot in lots_without(table, reading[0]):
+        asked = sorted({nodes for nodes in
+                        (tuple(node for node, kind in enumerate(reading) if row[node] != kind)
+                         for row in readings if row != reading and row[0] not in lot)})
+        for many in range(len(reading) + 1):
+            if any(all(any(node in places for node in nodes) for nodes in asked)
+                   for places in itertools.combinations(range(len(reading)), many)):
+                found[lot] = many
+                break
+    return found
+
+
+def state_of(table, readings, reading):
+    costs = costs_of(table, readings, reading)
+    return (reading[0], tuple(lot for lot in costs if costs[lot] < costs[()]))
 
 
 def agreeing(table, program, pins):

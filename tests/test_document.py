@@ -3,11 +3,16 @@
 import unittest
 
 from pinsenough.couples import apart_couples, apart_shown, had_couples, leads_of
+from pinsenough.enough import agree, are_enough, other_reading
 from pinsenough.forms import is_reading, is_state
+from pinsenough.growth import growth, is_growth_paper
 from pinsenough.made import least_programs, made_kinds, met_kinds, trimmed
+from pinsenough.manyreads import by_sizes, cut_tallies, greatest_readings, least_with
 from pinsenough.programs import context_of, filled, hole_of, parts_at, program_at, put_at, reading_at, size_of
+from pinsenough.pumping import piled, pumped
 from pinsenough.reader import read_program, read_table
 from pinsenough.readings import index_of, kinds_left, reading_by, readings_many, readings_of, unread_node
+from pinsenough.rounds import is_ranks, is_shifting, is_twofold, stays_of, twofold_round
 from pinsenough.texts import show_program, show_table
 
 
@@ -46,6 +51,33 @@ class ExamplesTest(unittest.TestCase):
                          [[(0, 0), (0, 1), (1, 0), (1, 1)], [(0, 1), (1, 0), (1, 1)], (1, (1, (0,))), None])
         self.assertEqual(leads_of(table)[3:], [((0, 0), (1, 1), False), ((0, 1), (0, 1), False), ((0, 1), (1, 1), False),
                                                ((1, 0), (1, 0), False), ((1, 0), (1, 1), False), ((1, 1), (1, 1), False)])
+        self.assertEqual([twofold_round(table), is_ranks(table, {(0, 0): 0, (0, 1): 1, (1, 0): 1, (1, 1): 1}), is_ranks(table, {})],
+                         [None, True, False])
+        found = ((1, None), (1, 1), (0, 0), (1, 0))
+        self.assertEqual([is_shifting(table, found), stays_of(table), piled(found[0], 2)], [True, None, (1, (1, None))])
+        self.assertEqual(pumped(found, 2, (0,), (0,)), ((1, (1, (0,))), [(0, 0, 0), (1, 0, 0), (1, 1, 0)]))
+        both = (2, (0, 1), ((0, (), 0), (1, (0,), 0), (1, (0,), 1), (1, (1,), 0)))
+        self.assertEqual([is_twofold(both, ((1, (1, None)), (0, 0, 0), (0, 1, 0))),
+                          is_twofold(table, ((1, (1, None)), (0, 0, 0), (0, 1, 0)))], [True, False])
+
+    def test_behind_22(self):
+        table = (2, (0, 1), ((0, (), 0), (1, (0,), 0), (1, (0,), 1), (1, (1,), 1)))
+        ranks = {(0, 0): 0, (0, 1): 1, (1, 0): 1, (1, 1): 1}
+        self.assertEqual([growth(table), is_growth_paper(table, ("powers", ((1, None), (1, 1), (0, 0), (1, 0)), ranks))],
+                         ["powers", True])
+        self.assertEqual([cut_tallies(table, 1), least_with(table, 3), by_sizes(table, 3)],
+                         [{(1, 0): (0,), (1, 1): (1, (0,))}, (1, (1, (0,))), [(1, 1, 1), (2, 1, 2), (3, 1, 3)]])
+        two = (2, (0, 0, 2), ((0, (), 0), (0, (), 1), (1, (), 0), (2, (0, 1), 0)))
+        self.assertEqual([growth(two), cut_tallies(two, 6)], ["bounded", {(1, 0): (1,), (1, 1): (0,)}])
+        self.assertEqual([greatest_readings(two), least_with(two, 3), by_sizes(two, 3)],
+                         [(2, (0,)), None, [(1, 2, 3), (2, 0, 0), (3, 2, 2)]])
+
+    def test_behind_25(self):
+        table = (2, (0, 1), ((0, (), 0), (1, (0,), 0), (1, (0,), 1), (1, (1,), 1)))
+        program = (1, (1, (0,)))
+        self.assertEqual([other_reading(table, program, (1, 0, 0), ()), other_reading(table, program, (1, 0, 0), (0,)),
+                          are_enough(table, program, (1, 0, 0), (0, 1))], [(0, 0, 0), (1, 1, 0), True])
+        self.assertTrue(agree((1, 0, 0), (1, 1, 0), (0, 2)))
 
 
 if __name__ == "__main__":

@@ -26,6 +26,13 @@ INTERFACE = {
                  "index_of(table, program, pins, reading)", "unread_node(table, program)"],
     "couples": ["had_couples(table)", "had_triples(table)", "apart_couples(table)", "leads_of(table)",
                 "couple_shown(table, couple)", "apart_shown(table, couple)"],
+    "rounds": ["twofold_round(table)", "shifting_round(table)", "ranks_of(table)", "stays_of(table)",
+               "is_twofold(table, thing)", "is_shifting(table, thing)", "is_ranks(table, thing)", "is_stays(table, thing)"],
+    "pumping": ["piled(context, many)", "laid_in(context, reading, inner)", "pumped(found, many, program, reading)"],
+    "growth": ["growth(table)", "growth_paper(table)", "is_growth_paper(table, thing)"],
+    "manyreads": ["cut_tallies(table, most)", "least_with(table, many)", "greatest_readings(table)", "by_sizes(table, size)"],
+    "enough": ["agree(one, other, places)", "are_enough(table, program, reading, places)",
+               "other_reading(table, program, reading, places)"],
 }
 
 
