@@ -5,14 +5,18 @@ import unittest
 from pinsenough.couples import apart_couples, apart_shown, had_couples, leads_of
 from pinsenough.enough import agree, are_enough, other_reading
 from pinsenough.forms import is_reading, is_state
+from pinsenough.greatest import greatest_need, heights, is_height_paper
 from pinsenough.growth import growth, is_growth_paper
+from pinsenough.leastpins import all_least_pins, least_pins, pins_for, thinned
 from pinsenough.made import least_programs, made_kinds, met_kinds, trimmed
 from pinsenough.manyreads import by_sizes, cut_tallies, greatest_readings, least_with
+from pinsenough.needs import costs, gains, greatest_of, need, need_told
 from pinsenough.programs import context_of, filled, hole_of, parts_at, program_at, put_at, reading_at, size_of
 from pinsenough.pumping import piled, pumped
 from pinsenough.reader import read_program, read_table
 from pinsenough.readings import index_of, kinds_left, reading_by, readings_many, readings_of, unread_node
 from pinsenough.rounds import is_ranks, is_shifting, is_twofold, stays_of, twofold_round
+from pinsenough.states import examples, led_on, led_state, state_of, states_of
 from pinsenough.texts import show_program, show_table
 
 
@@ -77,7 +81,25 @@ class ExamplesTest(unittest.TestCase):
         program = (1, (1, (0,)))
         self.assertEqual([other_reading(table, program, (1, 0, 0), ()), other_reading(table, program, (1, 0, 0), (0,)),
                           are_enough(table, program, (1, 0, 0), (0, 1))], [(0, 0, 0), (1, 1, 0), True])
-        self.assertTrue(agree((1, 0, 0), (1, 1, 0), (0, 2)))
+        self.assertEqual([need(table, program, (0, 0, 0)), need(table, program, (1, 0, 0)), costs(table, program, (1, 0, 0)),
+                          need_told(table, program, (1, 0, 0))], [1, 2, {(): 2, (0,): 1}, 1])
+        self.assertEqual([gains(table, program, (1, 0, 0)), gains(table, program, (1, 1, 0)), greatest_of(table, program)],
+                         [[1, 1, 0], [0, 1, 0], (2, (1, 0, 0))])
+        self.assertEqual([least_pins(table, program, (1, 0, 0)), pins_for(table, program, (1, 0, 0), (0,)),
+                          all_least_pins(table, program, (0, 0, 0))], [(0, 1), (1,), [(0,)]])
+        self.assertEqual([thinned(table, program, (1, 1, 0), (0, 1, 2)), agree((1, 0, 0), (1, 1, 0), (0, 2))], [(1,), True])
+
+    def test_behind_28(self):
+        table = (2, (0, 1), ((0, (), 0), (1, (0,), 0), (1, (0,), 1), (1, (1,), 1)))
+        self.assertEqual(states_of(table), [(0, ()), (0, ((1,),)), (1, ()), (1, ((0,),))])
+        self.assertEqual([state_of(table, (1, (1, (0,))), (1, 1, 0)), led_on(table, (1, (1,), 1), ((1, ((0,),)),)),
+                          examples(table)[(1, ())]], [(1, ()), ((1, ()), 0), ((1, (1, (0,))), (1, 1, 0))])
+        self.assertEqual([greatest_need(table), heights(table)],
+                         [2, {(0, ()): 0, (0, ((1,),)): 1, (1, ()): 2, (1, ((0,),)): 2}])
+        self.assertFalse(is_height_paper(table, {(0, ()): 0, (0, ((1,),)): 1, (1, ()): 1, (1, ((0,),)): 2}))
+        leaves = (2, (0, 2), ((0, (), 0), (0, (), 1), (1, (0, 0), 0), (1, (0, 1), 0), (1, (1, 0), 0), (1, (1, 1), 0)))
+        self.assertEqual([states_of(leaves), led_state(leaves, (1, None, (0,)), (0, 0, 1), (0, ()))],
+                         [[(0, ()), (0, ((1,),)), (1, ((0,),))], ((0, ()), 1)])
 
 
 if __name__ == "__main__":

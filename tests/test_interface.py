@@ -33,6 +33,13 @@ INTERFACE = {
     "manyreads": ["cut_tallies(table, most)", "least_with(table, many)", "greatest_readings(table)", "by_sizes(table, size)"],
     "enough": ["agree(one, other, places)", "are_enough(table, program, reading, places)",
                "other_reading(table, program, reading, places)"],
+    "needs": ["costs(table, program, reading)", "need(table, program, reading)", "need_told(table, program, reading)",
+              "gains(table, program, reading)", "greatest_of(table, program)"],
+    "leastpins": ["pins_for(table, program, reading, lot)", "least_pins(table, program, reading)",
+                  "thinned(table, program, reading, places)", "all_least_pins(table, program, reading)"],
+    "states": ["state_of(table, program, reading)", "states_of(table)", "steps_of(table)",
+               "led_on(table, entry, states)", "led_state(table, context, reading, state)", "examples(table)"],
+    "greatest": ["greatest_need(table)", "neediest(table)", "heights(table)", "is_height_paper(table, thing)"],
 }
 
 
