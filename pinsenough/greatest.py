@@ -1,10 +1,10 @@
 """The greatest need of all readings of all programs, and what shows that there is no greater one."""
 
 from pinsenough.errors import Doubling
-from pinsenough.forms import is_integer, is_state
+from pinsenough.forms import is_integer
 from pinsenough.programs import size_of
 from pinsenough.rounds import twofold_round
-from pinsenough.states import shown_states, steps_of
+from pinsenough.states import has_all_states, shown_states, steps_of
 
 
 def bounded_steps(table):
@@ -60,9 +60,6 @@ def heights(table):
 
 def is_height_paper(table, thing):
     steps = steps_of(table)
-    states = sorted({state for _, _, state, _ in steps})
-    if not isinstance(thing, dict) or len(thing) != len(states):
-        return False
-    if not all([is_state(table, key) and key in states and is_integer(thing[key]) for key in thing]):
+    if not has_all_states(table, steps, thing) or not all([is_integer(thing[key]) for key in thing]):
         return False
     return all([risen(step, thing) <= thing[step[2]] for step in steps])

@@ -2,6 +2,7 @@
 
 from pinsenough.couples import shown_marks
 from pinsenough.errors import TooMany
+from pinsenough.forms import is_state
 from pinsenough.needs import Machine, rows_over
 from pinsenough.programs import shape_of
 
@@ -54,6 +55,14 @@ def steps_of(table):
     return States(table).all_steps()
 
 
+def has_all_states(table, steps, thing):
+    """Whether thing, any value, is a dict whose keys are just the states that come about by all steps."""
+    states = {state for _, _, state, _ in steps}
+    if not isinstance(thing, dict) or len(thing) != len(states):
+        return False
+    return all([is_state(table, key) and key in states for key in thing])
+
+
 def led_on(table, entry, states):
     return States(table).machine.step(entry, states)
 
@@ -63,10 +72,15 @@ def state_mark(state):
     return ((state[0],), state[1])
 
 
+def marked_steps(steps):
+    """The steps as shown_marks takes them."""
+    return [(entry[0], tuple([state_mark(part) for part in states]), state_mark(state))
+            for entry, states, state, _ in steps]
+
+
 def shown_states(steps):
     """The dict from each state, ascending, to a tuple (program, reading) of the least size by these steps."""
-    found = shown_marks([(entry[0], tuple([state_mark(part) for part in states]), state_mark(state))
-                         for entry, states, state, _ in steps])
+    found = shown_marks(marked_steps(steps))
     return {(row[0], cheap): found[(row, cheap)] for row, cheap in sorted(found)}
 
 

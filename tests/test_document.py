@@ -2,6 +2,7 @@
 
 import unittest
 
+from pinsenough.asks import best_tree, fewest_asks, finds_all, found_by, height_of
 from pinsenough.couples import apart_couples, apart_shown, had_couples, leads_of
 from pinsenough.enough import agree, are_enough, other_reading
 from pinsenough.forms import is_reading, is_state
@@ -11,12 +12,15 @@ from pinsenough.leastpins import all_least_pins, least_pins, pins_for, thinned
 from pinsenough.made import least_programs, made_kinds, met_kinds, trimmed
 from pinsenough.manyreads import by_sizes, cut_tallies, greatest_readings, least_with
 from pinsenough.needs import costs, gains, greatest_of, need, need_told
+from pinsenough.places import are_for_all, least_places, unparted
 from pinsenough.programs import context_of, filled, hole_of, parts_at, program_at, put_at, reading_at, size_of
 from pinsenough.pumping import piled, pumped
+from pinsenough.rates import is_rate_paper, is_rate_round, rate
 from pinsenough.reader import read_program, read_table
 from pinsenough.readings import index_of, kinds_left, reading_by, readings_many, readings_of, unread_node
 from pinsenough.rounds import is_ranks, is_shifting, is_twofold, stays_of, twofold_round
 from pinsenough.states import examples, led_on, led_state, state_of, states_of
+from pinsenough.sure import clashing, is_sure, is_sure_paper, sure_paper
 from pinsenough.texts import show_program, show_table
 
 
@@ -96,10 +100,32 @@ class ExamplesTest(unittest.TestCase):
                           examples(table)[(1, ())]], [(1, ()), ((1, ()), 0), ((1, (1, (0,))), (1, 1, 0))])
         self.assertEqual([greatest_need(table), heights(table)],
                          [2, {(0, ()): 0, (0, ((1,),)): 1, (1, ()): 2, (1, ((0,),)): 2}])
-        self.assertFalse(is_height_paper(table, {(0, ()): 0, (0, ((1,),)): 1, (1, ()): 1, (1, ((0,),)): 2}))
+        self.assertEqual([rate(table), is_height_paper(table, {(0, ()): 0, (0, ((1,),)): 1, (1, ()): 1, (1, ((0,),)): 2})],
+                         [(0, 1), False])
         leaves = (2, (0, 2), ((0, (), 0), (0, (), 1), (1, (0, 0), 0), (1, (0, 1), 0), (1, (1, 0), 0), (1, (1, 1), 0)))
-        self.assertEqual([states_of(leaves), led_state(leaves, (1, None, (0,)), (0, 0, 1), (0, ()))],
-                         [[(0, ()), (0, ((1,),)), (1, ((0,),))], ((0, ()), 1)])
+        self.assertEqual([states_of(leaves), rate(leaves), led_state(leaves, (1, None, (0,)), (0, 0, 1), (0, ()))],
+                         [[(0, ()), (0, ((1,),)), (1, ((0,),))], (1, 2), ((0, ()), 1)])
+        self.assertEqual([is_rate_round(leaves, ((1, None, (0,)), (0, 0, 1), (0, ()))),
+                          is_rate_paper(leaves, (1, 2), {(0, ()): (-1, 2), (0, ((1,),)): (1, 2), (1, ((0,),)): (1, 2)})], [True, False])
+
+    def test_behind_30(self):
+        table = (2, (0, 1), ((0, (), 0), (1, (0,), 0), (1, (0,), 1), (1, (1,), 1)))
+        program = (1, (1, (1, (0,))))
+        self.assertEqual([are_for_all(table, program, (0,)), unparted(table, program, (0,)), least_places(table, program)],
+                         [False, ((1, 0, 0, 0), (1, 1, 0, 0)), (0, 1, 2)])
+        tree = ("ask", 1, {0: ("ask", 0, {0: ("end", (0, 0, 0, 0)), 1: ("end", (1, 0, 0, 0))}),
+                           1: ("ask", 2, {0: ("end", (1, 1, 0, 0)), 1: ("end", (1, 1, 1, 0))})})
+        self.assertEqual([finds_all(table, program, tree), height_of(tree), found_by(tree, (1, 1, 0, 0)),
+                          finds_all(table, program, tree[2][0])], [True, 2, (1, 2), False])
+        self.assertEqual([fewest_asks(table, program), height_of(best_tree(table, program)), fewest_asks(table, (0,)),
+                          best_tree(table, (0,))], [2, 2, 0, ("end", (0,))])
+
+    def test_behind_32(self):
+        table = (2, (0, 1, 1), ((0, (), 0), (0, (), 1), (1, (0,), 0), (1, (1,), 1), (2, (0,), 0), (2, (1,), 0)))
+        self.assertEqual([is_sure(table, ()), clashing(table, ()), sure_paper(table, ())], [False, ((2, (0,)), (0, 0), (0, 1)), None])
+        self.assertEqual([sure_paper(table, (0,)), sure_paper(table, (1, 2))], [(), None])
+        two = (2, table[1][:2], table[2][:4])
+        self.assertEqual([is_sure(two, ()), sure_paper(two, ()), is_sure_paper(two, (), ())], [True, ((0, 1),), False])
 
 
 if __name__ == "__main__":

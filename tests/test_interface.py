@@ -40,6 +40,12 @@ INTERFACE = {
     "states": ["state_of(table, program, reading)", "states_of(table)", "steps_of(table)",
                "led_on(table, entry, states)", "led_state(table, context, reading, state)", "examples(table)"],
     "greatest": ["greatest_need(table)", "neediest(table)", "heights(table)", "is_height_paper(table, thing)"],
+    "rates": ["rate(table)", "rate_paper(table)", "rate_round(table)", "is_rate_paper(table, fraction, thing)",
+              "is_rate_round(table, thing)"],
+    "places": ["are_for_all(table, program, places)", "least_places(table, program)", "unparted(table, program, places)"],
+    "asks": ["height_of(tree)", "fewest_asks(table, program)", "finds_all(table, program, thing)", "best_tree(table, program)",
+             "found_by(tree, reading)"],
+    "sure": ["is_sure(table, lot)", "is_sure_paper(table, lot, thing)", "clashing(table, lot)", "sure_paper(table, lot)"],
 }
 
 

@@ -93,7 +93,9 @@ class LanguageTest(unittest.TestCase):
                         if row.module not in LIBRARY:
                             self.assertTrue(row.module.startswith("pinsenough."), name)
                             tree_of = ast.parse((PACKAGE / (row.module.partition(".")[2] + ".py")).read_text())
-                            self.assertIn(alias.name, [top.name for top in tree_of.body if hasattr(top, "name")], name)
+                            own = [top.name for top in tree_of.body if hasattr(top, "name")]
+                            own += [top.targets[0].id for top in tree_of.body if isinstance(top, ast.Assign)]
+                            self.assertIn(alias.name, own, name)
                         else:
                             self.assertIn(alias.name, LIBRARY[row.module], name)
 
