@@ -13,13 +13,17 @@ def rows_over(lists):
     return rows
 
 
+def lots_of(members):
+    """The ascending list of all tuples with some of the members, perhaps none, in their order."""
+    lots = [()]
+    for member in members:
+        lots = lots + [(*lot, member) for lot in lots]
+    return sorted(lots)
+
+
 def lots_without(many, kind):
     """The ascending list of all LOTS of so many kinds that have not this one."""
-    lots = [()]
-    for other in range(many):
-        if other != kind:
-            lots = lots + [(*lot, other) for lot in lots]
-    return sorted(lots)
+    return lots_of([other for other in range(many) if other != kind])
 
 
 def lies_in(lot, other):

@@ -59,6 +59,23 @@ def kinds_left(table, program, pins):
     return [tuple(kinds) for kinds in left_at_nodes(table, shape, tallies_of(table, shape, pins))]
 
 
+def numbers_left(table, program, pins):
+    """For each node, for each kind, the number of the readings of the whole that agree and have it there."""
+    shape = shape_of(program)
+    tallies = tallies_of(table, shape, pins)
+    # For each node, for each kind, the number of ways to read all but the program at it.
+    around = [[0] * table[0] for _ in shape]
+    around[0] = [1] * table[0]
+    for node, (_, nodes) in enumerate(shape):
+        below = [tallies[part] for part in nodes]
+        for parts, kind in entries_at(table, shape, node):
+            if pins.get(node, kind) == kind:
+                for place, part in enumerate(nodes):
+                    beside = ways(below[:place], parts[:place]) * ways(below[place + 1:], parts[place + 1:])
+                    around[part][parts[place]] += around[node][kind] * beside
+    return [[one * other for one, other in zip(tally, row)] for tally, row in zip(tallies, around)]
+
+
 def joined(kind, options, below):
     """The ascending list of the readings of a kind that come of the parts' readings.
 

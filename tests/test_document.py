@@ -2,13 +2,17 @@
 
 import unittest
 
+from pinsenough.alike import basis_of, is_basis, numbers_of, unlike_many
 from pinsenough.asks import best_tree, fewest_asks, finds_all, found_by, height_of
+from pinsenough.beside import harmed, harmless_lots, harmless_paper, is_harmless_paper, with_entries
 from pinsenough.couples import apart_couples, apart_shown, had_couples, leads_of
+from pinsenough.desk import Desk
 from pinsenough.enough import agree, are_enough, other_reading
 from pinsenough.forms import is_reading, is_state
 from pinsenough.greatest import greatest_need, heights, is_height_paper
 from pinsenough.growth import growth, is_growth_paper
 from pinsenough.leastpins import all_least_pins, least_pins, pins_for, thinned
+from pinsenough.live import Live
 from pinsenough.made import least_programs, made_kinds, met_kinds, trimmed
 from pinsenough.manyreads import by_sizes, cut_tallies, greatest_readings, least_with
 from pinsenough.needs import costs, gains, greatest_of, need, need_told
@@ -21,6 +25,7 @@ from pinsenough.readings import index_of, kinds_left, reading_by, readings_many,
 from pinsenough.rounds import is_ranks, is_shifting, is_twofold, stays_of, twofold_round
 from pinsenough.states import examples, led_on, led_state, state_of, states_of
 from pinsenough.sure import clashing, is_sure, is_sure_paper, sure_paper
+from pinsenough.sureleast import least_by_lots, least_sure_lots, written_nodes
 from pinsenough.texts import show_program, show_table
 
 
@@ -123,9 +128,39 @@ class ExamplesTest(unittest.TestCase):
     def test_behind_32(self):
         table = (2, (0, 1, 1), ((0, (), 0), (0, (), 1), (1, (0,), 0), (1, (1,), 1), (2, (0,), 0), (2, (1,), 0)))
         self.assertEqual([is_sure(table, ()), clashing(table, ()), sure_paper(table, ())], [False, ((2, (0,)), (0, 0), (0, 1)), None])
-        self.assertEqual([sure_paper(table, (0,)), sure_paper(table, (1, 2))], [(), None])
+        self.assertEqual([least_sure_lots(table), sure_paper(table, (0,)), sure_paper(table, (1, 2))], [[(0,)], (), None])
         two = (2, table[1][:2], table[2][:4])
-        self.assertEqual([is_sure(two, ()), sure_paper(two, ()), is_sure_paper(two, (), ())], [True, ((0, 1),), False])
+        self.assertEqual([is_sure(two, ()), sure_paper(two, ()), is_sure_paper(two, (), ()), least_sure_lots(two)],
+                         [True, ((0, 1),), False, [()]])
+        program = (2, (1, (1, (0,))))
+        self.assertEqual([written_nodes(program, (0,)), least_by_lots(table, program)], [(0, 3), (2, (0,))])
+
+    def test_behind_34(self):
+        table = (2, (0, 1), ((0, (), 0), (1, (0,), 1)))
+        first, second, third = (0, (), 1), (1, (0,), 0), (1, (1,), 0)
+        self.assertEqual([harmed(table, (second,)), harmless_paper(table, (third,))],
+                         [((1, (0,)), (1, 0), (0, 0)),
+                          (((0, 0), (0, 1)), ((0, 0), (1, 1)), ((0, 1), (0, 0)), ((1, 1), (0, 0)))])
+        self.assertEqual([harmless_lots(table, (first, second, third)), with_entries(table, (third,))[2][-1]],
+                         [[((1, (1,), 0),)], (1, (1,), 0)])
+        self.assertFalse(is_harmless_paper(table, (third,), harmless_paper(table, (third,))[1:]))
+        more = with_entries(table, (second, third))
+        self.assertEqual([numbers_of(table, more, (1, (0,))), numbers_of(table, more, (1, (1, (0,))))], [(0, 1, 1, 1), (0, 0, 2, 1)])
+        self.assertEqual([len(basis_of(table, more)), is_basis(table, more, ((0,), (0,))), unlike_many(table, (0,), table, (0,))],
+                         [4, False, None])
+        self.assertFalse(unlike_many(table, (0, 1), more, (0, 1)) is None)
+
+    def test_behind_36(self):
+        table = (2, (0, 1), ((0, (), 0), (0, (), 1), (1, (0,), 0), (1, (1,), 0), (1, (1,), 1)))
+        live = Live(table, (1, (1, (0,))))
+        self.assertEqual([live.left(), live.best_pin(), live.pin(0, 1), live.left(), live.meant(), live.add_duty(("one",))],
+                         [4, (0, 1, 1), None, 1, (1, 1, 1), None])
+        self.assertEqual([live.put(1, (0,)), live.pins_now(), live.meant(), live.back(), live.program_now(), live.twin() == live],
+                         [None, {0: 1}, (1, 1), None, (1, (1, (0,))), True])
+        desk = Desk("kind a\nkind b\nsign g 0\nsign f 1\nentry g is a\nentry g is b\nentry f a is a\nentry f b is b\nprogram f ( g:a )")
+        self.assertEqual([desk.execute(line) for line in ["left", "keep one", "unpin 1", "pin 0 a", "unpin 1", "program", "kinds 1", "meant"]],
+                         [["1"], ["done"], ["refused"], ["done"], ["done"], ["f:a ( g )"], ["a"], ["a a"]])
+        self.assertEqual([desk.execute("duties"), desk.live().duties()], [["keep one"], [("one",)]])
 
 
 if __name__ == "__main__":

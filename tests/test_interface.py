@@ -46,6 +46,18 @@ INTERFACE = {
     "asks": ["height_of(tree)", "fewest_asks(table, program)", "finds_all(table, program, thing)", "best_tree(table, program)",
              "found_by(tree, reading)"],
     "sure": ["is_sure(table, lot)", "is_sure_paper(table, lot, thing)", "clashing(table, lot)", "sure_paper(table, lot)"],
+    "sureleast": ["least_sure_lots(table)", "written_nodes(program, lot)", "least_by_lots(table, program)"],
+    "beside": ["with_entries(table, more)", "harmed(table, more)", "harmless_paper(table, more)",
+               "is_harmless_paper(table, more, thing)", "harmless_lots(table, more)"],
+    "alike": ["numbers_of(one, other, program)", "basis_of(one, other)", "is_basis(one, other, thing)",
+              "unlike_many(one, some, other, others)"],
+    "live": ["Live(table, program)"],
+    "desk": ["Desk(text)"],
+}
+METHODS = {
+    "Live": ["put(node, program)", "pin(node, kind)", "unpin(node)", "add_duty(duty)", "back()", "again()", "drop_duty(index)", "program_now()",
+             "pins_now()", "duties()", "kinds_now()", "left()", "meant()", "best_pin()", "twin()", "__eq__(other)"],
+    "Desk": ["execute(line)", "live()"],
 }
 
 
@@ -64,6 +76,23 @@ class InterfaceTest(unittest.TestCase):
             defined = [row.name for row in tree.body if isinstance(row, (ast.FunctionDef, ast.ClassDef))]
             for call in calls:
                 self.assertIn(call.partition("(")[0], defined)
+
+    def test_methods(self):
+        for name, methods in METHODS.items():
+            path = PACKAGE / f"{name.lower()}.py"
+            tops = [row for row in ast.parse(path.read_text()).body if isinstance(row, ast.ClassDef) and row.name == name]
+            told = {row.name: row for row in tops[0].body if isinstance(row, ast.FunctionDef)}
+            for method in methods:
+                word, _, rest = method.partition("(")
+                given = [arg.arg for arg in told[word].args.args]
+                self.assertEqual(given, ["self", *[arg for arg in rest[:-1].split(", ") if arg]])
+                self.assertEqual(told[word].args.defaults, [])
+
+    def test_all_that_the_document_lists(self):
+        """Each module file is one of the interface, and each of the interface is there."""
+        files = {path.stem for path in PACKAGE.glob("*.py")} - {"__init__"}
+        self.assertEqual(files, set(INTERFACE))
+        self.assertEqual(len(INTERFACE), 26)
 
     def test_modules_use_those_above(self):
         above = []

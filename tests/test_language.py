@@ -18,6 +18,10 @@ BARRED = ("type typing enum Enum Flag Generic Protocol ABC namedtuple NamedTuple
 STATEMENTS = (ast.Assign, ast.AugAssign, ast.If, ast.While, ast.For, ast.Return, ast.Break, ast.Continue, ast.Pass, ast.Raise,
               ast.Delete, ast.Expr, ast.Try, ast.Import, ast.ImportFrom, ast.FunctionDef, ast.ClassDef)
 BARRED_NODES = (ast.Yield, ast.YieldFrom, ast.Await, ast.Div, ast.Global, ast.Nonlocal, ast.NamedExpr, ast.Set, ast.AnnAssign)
+TAKERS = ("list", "tuple", "dict", "sorted", "sum", "any", "all", "enumerate", "zip", "min", "max", "len", "reversed",
+          "combinations")
+HELD = ("items keys values pop update append clear extend insert remove reverse setdefault sort args encode decode hex fromhex "
+        "format").split()
 ITERATED = ("any", "all", "min", "max", "sum", "sorted")
 
 
@@ -135,6 +139,31 @@ class LanguageTest(unittest.TestCase):
                         self.assertNotIsInstance(part, ast.GeneratorExp, (name, row.lineno))
                 if isinstance(row, ast.Assign) and isinstance(row.value, ast.Call) and isinstance(row.value.func, ast.Name):
                     self.assertNotIn(row.value.func.id, ["zip", "enumerate", "reversed", "map", "set"], (name, row.lineno))
+
+    def test_views_go_straight_into_what_iterates(self):
+        for name, tree in self.trees():
+            for row in ast.walk(tree):
+                for part in ast.iter_child_nodes(row):
+                    if not isinstance(part, ast.Call):
+                        continue
+                    called = part.func.id if isinstance(part.func, ast.Name) else getattr(part.func, "attr", None)
+                    view = isinstance(part.func, ast.Attribute) and called in ("items", "keys", "values")
+                    if view or called in ("range", "zip", "enumerate", "reversed", "map", "combinations", "product"):
+                        taken = isinstance(row, (ast.For, ast.comprehension)) and row.iter is part
+                        given = isinstance(row, ast.Call) and isinstance(row.func, ast.Name) and row.func.id in TAKERS
+                        self.assertTrue(taken or given, (name, part.lineno))
+
+    def test_methods_and_attributes(self):
+        """No name is a method and an attribute in one class, and no attribute is called as a method of a list or a dict."""
+        for name, tree in self.trees():
+            for top in tree.body:
+                if isinstance(top, ast.ClassDef):
+                    methods = [row.name for row in top.body if isinstance(row, ast.FunctionDef)]
+                    self.assertEqual(len(methods), len(set(methods)))
+                    stored = {row.attr for row in ast.walk(top) if isinstance(row, ast.Attribute) and isinstance(row.ctx, ast.Store)}
+                    self.assertEqual(stored & {*methods, *HELD}, set(), (name, top.name))
+                    allowed = [method for method in methods if method.startswith("__")]
+                    self.assertLessEqual(set(allowed), {"__init__", "__eq__"})
 
     def test_no_function_calls_itself(self):
         for name, tree in self.trees():
