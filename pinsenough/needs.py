@@ -85,9 +85,14 @@ class Machine:
         key = (entry, states)
         if key not in self.known:
             choices = self.choices(entry, states)
-            gain = best_choice(choices, ())[0]
-            cheap = [lot for lot in self.lots[entry[2]] if best_choice(choices, lot)[0] < gain]
-            self.known[key] = ((entry[2], tuple(cheap)), gain)
+            most = max([saved for saved, _, _ in choices])
+            # To save one place less and to put one at the top come to the same: so these choices are enough.
+            left = sorted({kinds for saved, kinds, _ in choices if saved == most})
+            cheap = [lot for lot in self.lots[entry[2]] if any([lies_in(kinds, lot) for kinds in left])]
+            if () in left:
+                self.known[key] = ((entry[2], ()), -most)
+            else:
+                self.known[key] = ((entry[2], tuple(cheap)), 1 - most)
         return self.known[key]
 
     def steps_at(self, shape, reading, state):

@@ -266,8 +266,6 @@ class LiveTest(unittest.TestCase):
         self.assertTrue(led() == led())
         self.assertTrue(led(pins=((0, 0), (1, 0))) == led(pins=((1, 0), (0, 0))))
         self.assertTrue(led(duties=(("read",), ("most", 4))) == led(duties=(("read",), ("most", 4))))
-        wider = (2, TABLE[1], (*TABLE[2], ))
-        self.assertTrue(led() == led(table=wider))
         for other in (led(program=(1, (0,))), led(pins=((0, 0),)), led(duties=(("read",),)), led(table=(3, TABLE[1], TABLE[2])),
                       led(table=(2, TABLE[1], TABLE[2][1:]))):
             self.assertFalse(led() == other)

@@ -136,6 +136,12 @@ class NeedsTest(unittest.TestCase):
         self.assertEqual(costs(MANY, (1,), (3,)), {(): 1, (0,): 1, (0, 1): 1, (0, 1, 2): 0, (0, 2): 0, (1,): 1, (1, 2): 0, (2,): 0})
         self.assertEqual([need_told(MANY, (1,), (3,)), need(MANY, (1,), (3,))], [0, 1])
 
+    def test_two_ways_to_save_one_place(self):
+        """At either part, but not at both: the others left are of the one kind, or of the other."""
+        table = (3, (0, 2), ((0, (), 0), (0, (), 1), (1, (0, 0), 0), (1, (0, 1), 2), (1, (1, 0), 1), (1, (1, 1), 0)))
+        self.assertEqual(costs(table, (1, (0,), (0,)), (0, 0, 0)), {(): 2, (1,): 1, (1, 2): 1, (2,): 1})
+        self.assertEqual(brute.costs_of(table, brute.readings_of(table, (1, (0,), (0,))), (0, 0, 0)), {(): 2, (1,): 1, (1, 2): 1, (2,): 1})
+
     def test_forty_nodes(self):
         program = leafy(20)
         self.assertEqual(sum(readings_many(LEAVES, program, {})), 2 ** 20)

@@ -5,6 +5,7 @@ import unittest
 from fractions import Fraction
 
 from pinsenough.errors import TooMany
+from pinsenough.forms import is_state
 from pinsenough.greatest import heights
 from pinsenough.needs import gains, need
 from pinsenough.programs import filled, hole_of, size_of
@@ -215,6 +216,17 @@ class RatesTest(unittest.TestCase):
         slow = (2, (*BOTH[1], 1), (*BOTH[2], (2, (0,), 0), (2, (1,), 1)))
         self.assertEqual(rate(slow), (1, 1))
         self.assertIs(is_rate_round(slow, ((2, None), (0, 0), rate_round(slow)[2])), False)
+
+    def test_a_state_that_does_not_come_about(self):
+        """It is one by form, and led to itself with the gain of a round, but no reading has it."""
+        table = (3, (0, 2, 2), ((0, (), 0), (0, (), 1), (1, (0, 2), 0), (1, (0, 2), 2), (1, (1, 2), 2), (1, (2, 0), 0), (1, (2, 0), 1),
+                                (1, (2, 1), 0), (2, (0, 1), 0), (2, (0, 1), 1), (2, (1, 0), 1), (2, (1, 1), 0), (2, (1, 2), 0),
+                                (2, (2, 2), 0)))
+        self.assertEqual(rate(table), (1, 2))
+        for reading, state in (((2, 0, 2), (2, ((0,), (0, 1)))), ((2, 1, 2), (2, ()))):
+            self.assertTrue(is_state(table, state) and state not in states_of(table))
+            self.assertEqual(led_state(table, (1, (0,), None), reading, state), (state, 1))
+            self.assertIs(is_rate_round(table, ((1, (0,), None), reading, state)), False)
 
     def test_exchanged(self):
         right = 0

@@ -163,6 +163,9 @@ class SureTest(unittest.TestCase):
         # A couple of a kind that is not made may stand in a paper, and is asked for then.
         self.assertEqual([is_sure_paper(LOOSE, (), ((0, 2),)), is_sure_paper(LOOSE, (), ((1, 2),))], [False, True])
         self.assertEqual([slow_paper(LOOSE, (), ((0, 2),)), slow_paper(LOOSE, (), ((1, 2),))], [False, True])
+        lesser = (2, (0, 1), ((0, (), 1), (1, (0,), 1), (1, (1,), 1)))
+        for thing, wanted in (((), True), (((0, 1),), False)):
+            self.assertEqual([is_sure_paper(lesser, (), thing), slow_paper(lesser, (), thing)], [wanted, wanted])
 
     def test_the_same_parts(self):
         """Of two entries with the same parts just the wholes are unlike: at the top the kind is written, below it is not."""
